@@ -1,0 +1,1 @@
+"""Samepage: templates whose pages always read as they were meant."""

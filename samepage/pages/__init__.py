@@ -1,0 +1,1 @@
+"""Pages: the reader, the tokens that it returns, and the shortest page of given tokens."""
