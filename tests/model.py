@@ -4,6 +4,8 @@ It is slow and plain on purpose: each point is one function, reading again is a 
 are looked up in the list of all of them. The tests hold the program against it.
 """
 
+import itertools
+
 from tests.common import BEGINNINGS, BLANKS, DIGITS, LETTERS, RAW_NAMES, REFERENCES, START
 
 KIND_OF_PLACE = {
@@ -192,3 +194,155 @@ def expected_states():
         goal = "</" + element
         found += [("raw", element, goal[:size]) for size in range(len(goal) + 1)]
     return found
+
+
+def model_events(page):
+    state = START
+    found = []
+    for char in page:
+        state, events = model_step(state, char)
+        found += events
+    return found + model_finish(state)
+
+
+def model_tokens(events, join="".join):
+    """Points 114 and 203; `join` makes a string, or pieces, of a list of items."""
+    tokens = []
+    at = 0
+    while at < len(events):
+        kind = events[at][0]
+        if kind in ("text", "raw"):
+            end = at
+            while end < len(events) and events[end][0] == kind:
+                end += 1
+            tokens.append((kind, join([item for _, item in events[at:end]])))
+            at = end
+            continue
+        end = events.index(("close", ""), at)
+        inside = events[at + 1:end]
+        if kind == "comment":
+            tokens.append((kind, join([item for _, item in inside])))
+        else:
+            tokens.append(model_tag(kind, inside, join))
+        at = end + 1
+    return tokens
+
+
+def model_tag(kind, inside, join):
+    starts = [at for at, event in enumerate(inside) if event[0] == "attribute"] + [len(inside)]
+    name = join([item for _, item in inside[:starts[0]]])
+    attributes = []
+    for start, end in zip(starts, starts[1:]):
+        part = inside[start:end]
+        key = join([item for event, item in part if event in ("attribute", "name")])
+        has_value = any(event == "value" for event, _ in part)
+        value = join([item for event, item in part if event == "value"]) if has_value else None
+        attributes.append((key, value))
+    return (kind, name, attributes)
+
+
+def model_pieces(items):
+    """The list of pieces of a list of characters, empty texts and marks."""
+    return [
+        piece
+        for is_mark, group in itertools.groupby(items, lambda item: isinstance(item, int))
+        for piece in (group if is_mark else ["".join(group)])
+        if piece != ""
+    ]
+
+
+def model_row_events(row):
+    state = START
+    found = []
+    for item in row:
+        state, events = model_mark_step(state, item) if isinstance(item, int) else model_step(state, item)
+        found += events
+    return found + model_finish(state)
+
+
+def model_tree(tokens):
+    """Point 117, by the number of the node in which each node stands."""
+    nodes = []
+    opened = []
+    for token in tokens:
+        if token[0] == "end":
+            names = [nodes[number][0][1] for number in opened]
+            if token[1] in names:
+                del opened[len(names) - 1 - names[::-1].index(token[1]):]
+            continue
+        nodes.append((token, opened[-1] if opened else None))
+        if token[0] == "tag" and token[1] not in ("br", "hr", "img", "meta", "link", "wbr"):
+            opened.append(len(nodes) - 1)
+    return nodes_in(nodes, None)
+
+
+def nodes_in(nodes, parent):
+    return [
+        ("element", token[1], token[2], nodes_in(nodes, number)) if token[0] == "tag" else token
+        for number, (token, inside) in enumerate(nodes) if inside == parent
+    ]
+
+
+def model_read(page):
+    return model_tokens(model_events(page))
+
+
+def events_of_tokens(tokens):
+    """The events that a page with these tokens must have; no two lists of events have the same tokens."""
+    found = []
+    for token in tokens:
+        kind = token[0]
+        if kind in ("text", "raw"):
+            found += [(kind, char) for char in token[1]]
+        elif kind == "comment":
+            found += [(kind, "")] + [(kind, char) for char in token[1]] + [("close", "")]
+        else:
+            found += [(kind, "")] + [("name", char) for char in token[1]]
+            for key, value in token[2]:
+                found += [("attribute", key[:1])] + [("name", char) for char in key[1:]]
+                if value is not None:
+                    found += [("value", "")] + [("value", char) for char in value]
+            found.append(("close", ""))
+    return found
+
+
+STEPS = {}
+
+
+def cached_step(state, char):
+    if (state, char) not in STEPS:
+        STEPS[(state, char)] = model_step(state, char)
+    return STEPS[(state, char)]
+
+
+def search_page(tokens):
+    """The shortest page of the tokens, of several the first one; None if there is none.
+
+    It is found by a breadth-first search over the states of the reader and the numbers of events that were emitted,
+    in the order of strings. Characters that can neither be meant nor be part of the markup are not tried.
+    """
+    wanted = events_of_tokens(tokens)
+    if model_tokens(wanted) != tokens:
+        return None
+    signs = sorted(set("\n />=!-&;#\"'<ltgamp" + DIGITS) | {char for _, char in wanted if char != ""})
+    came = {(START, 0): None}
+    due = [(START, 0)]
+    for node in due:
+        state, count = node
+        if model_finish(state) == wanted[count:]:
+            return page_of_way(came, node)
+        for char in signs:
+            after, events = cached_step(state, char)
+            follower = (after, count + len(events))
+            if follower not in came and wanted[count:count + len(events)] == events:
+                came[follower] = (node, char)
+                due.append(follower)
+    return None
+
+
+def page_of_way(came, node):
+    chars = []
+    while came[node] is not None:
+        node, char = came[node]
+        chars.append(char)
+    return "".join(reversed(chars))

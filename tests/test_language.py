@@ -17,6 +17,10 @@ INTERFACE = {
     ],
     "samepage.pages.references": ["reference_text", "is_beginning", "least_reference"],
     "samepage.pages.machine": ["step", "finish"],
+    "samepage.pages.tokens": ["events", "read", "is_possible"],
+    "samepage.pages.writing": ["shortest_page"],
+    "samepage.pages.trees": ["tree"],
+    "samepage.marks.marked": ["mark_step", "marked_events", "read_row", "state_after"],
 }
 
 BUILTINS = (

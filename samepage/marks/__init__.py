@@ -1,0 +1,1 @@
+"""Marks: pages in which some texts are not known yet."""
