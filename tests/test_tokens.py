@@ -41,7 +41,8 @@ class EventsTest(unittest.TestCase):
     def test_long_pages(self):
         for piece in ("a", "<", "<b>", "&", "&#1", "&;", "<!--", "<a b=\"", "<script>", "</script"):
             page = piece * (20000 // len(piece))
-            self.assertEqual(events(page), model_events(page))
+            # No assertEqual: to show how two lists as long as this differ takes minutes.
+            self.assertTrue(events(page) == model_events(page), piece)
 
 
 class ReadTest(unittest.TestCase):
@@ -173,12 +174,15 @@ class ReadTest(unittest.TestCase):
         self.check("<script></script><script>a", [script, ("end", "script", []), script, ("raw", "a")])
 
     def test_long_pages(self):
-        self.check("a" * 20000, [("text", "a" * 20000)])
-        self.check("<a>" * 6666, [("tag", "a", [])] * 6666)
-        self.check("<a" + " b" * 9999, [("tag", "a", [("b", None)] * 9999)])
-        self.check("<!--" + "-" * 19990 + ">", [("comment", "-" * 19988)])
-        self.check("&;" * 10000, [])
-        self.check("<style>" + "</style" * 2800, [("tag", "style", []), ("raw", "</style" * 2800)])
+        for page, tokens in (
+            ("a" * 20000, [("text", "a" * 20000)]),
+            ("<a>" * 6666, [("tag", "a", [])] * 6666),
+            ("<a" + " b" * 9999, [("tag", "a", [("b", None)] * 9999)]),
+            ("<!--" + "-" * 19990 + ">", [("comment", "-" * 19988)]),
+            ("&;" * 10000, []),
+            ("<style>" + "</style" * 2800, [("tag", "style", []), ("raw", "</style" * 2800)]),
+        ):
+            self.assertTrue(read(page) == tokens, page[:20])
 
 
 class IsPossibleTest(unittest.TestCase):

@@ -8,7 +8,7 @@ import unittest
 from samepage.errors import Impossible
 from samepage.pages.tokens import is_possible, read
 from samepage.pages.writing import shortest_page
-from tests.common import CHARACTERS, REFERENCES
+from tests.common import CHARACTERS, LETTERS, REFERENCES
 from tests.model import search_page
 from tests.pages import all_pages
 
@@ -54,6 +54,22 @@ class ExamplesTest(WritingTest):
         for char in CHARACTERS:
             page = "<&;" + char if char.isalpha() else "<" + char
             self.check([("text", "<" + char)], page)
+
+    def test_every_letter_behind_less(self):
+        for char in LETTERS:
+            for more in ("", "!", "0", "z"):
+                self.check([("text", "<" + char + more)], "<&;" + char + more)
+                self.check([("text", "</" + char + more)], "<&;/" + char + more)
+
+    def test_texts_that_are_parted_side_by_side(self):
+        signs = {
+            "<b": "<&;b", "</b": "<&;/b", "<!--": "<!&;--", "&;": "&&;;", "&lt;": "&&;lt;", "&amp;": "&&;amp;",
+            "&#10;": "&#&;10;", "&#126;": "&#&;126;", "<!-": "<!-", "</": "</", "<": "<", "&": "&", "&#1": "&#1",
+        }
+        for one in signs:
+            for other in signs:
+                self.check([("text", one + other)], signs[one] + signs[other])
+                self.check([("text", "a" + one + other + "]")], "a" + signs[one] + signs[other] + "]")
 
     def test_every_reference_as_a_text(self):
         for text in REFERENCES:
@@ -304,7 +320,7 @@ class ArgumentsTest(unittest.TestCase):
             tokens = read(page)
             found = shortest_page(tokens)
             self.assertLessEqual(len(found), len(page))
-            self.assertEqual(read(found), tokens)
+            self.assertTrue(read(found) == tokens, page[:20])
 
 
 if __name__ == "__main__":
