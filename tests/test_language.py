@@ -3,6 +3,7 @@
 import ast
 import builtins
 import importlib
+import inspect
 import os
 import unittest
 
@@ -21,7 +22,26 @@ INTERFACE = {
     "samepage.pages.writing": ["shortest_page"],
     "samepage.pages.trees": ["tree"],
     "samepage.marks.marked": ["mark_step", "marked_events", "read_row", "state_after"],
+    "samepage.marks.filling": ["fill", "marks_of", "is_open", "hopeless_text"],
+    "samepage.templates.shapes": ["is_name", "parse_shape", "write_shape", "field_kind", "depth_of"],
+    "samepage.templates.source": ["parse_template", "write_template"],
+    "samepage.templates.laying": ["lay_out", "holes_of"],
+    "samepage.data.values": ["is_value", "parts_of", "same"],
+    "samepage.data.notation": ["notation", "read_notation"],
+    "samepage.data.records": ["misfit", "note", "read_note", "datum"],
+    "samepage.ways.program": ["program", "questions"],
 }
+
+SIGNATURES = [
+    "reference_text(text)", "is_beginning(text)", "least_reference(char)", "step(state, char)", "finish(state)", "events(page)",
+    "read(page)", "is_possible(tokens)", "shortest_page(tokens)", "tree(tokens)", "mark_step(state, number)",
+    "marked_events(row)", "read_row(row)", "state_after(row)", "fill(tokens, texts)", "marks_of(tokens)", "is_open(state)",
+    "hopeless_text(state)", "is_name(text)", "parse_shape(text)", "write_shape(shape)", "field_kind(shape, name)",
+    "depth_of(shape)", "parse_template(source)", "write_template(template)", "lay_out(template)", "holes_of(nodes)",
+    "is_value(value)", "parts_of(value)", "same(one, two)", "notation(value)", "read_notation(text, most=12)",
+    "misfit(record, shape)", "note(record, shape)", "read_note(text, shape)", "datum(records, path)", "program(nodes)",
+    "questions(instructions, number)",
+]
 
 BUILTINS = (
     "len range enumerate zip min max sum abs sorted reversed int str bool bytes list tuple dict set isinstance ord "
@@ -39,7 +59,7 @@ WORDS_THAT_ARE_NOT_USED = (
 ).split()
 STATEMENTS = (
     ast.FunctionDef, ast.ClassDef, ast.Return, ast.Assign, ast.AugAssign, ast.For, ast.While, ast.If, ast.Raise,
-    ast.Pass, ast.Break, ast.Continue, ast.Expr, ast.ImportFrom,
+    ast.Pass, ast.Break, ast.Continue, ast.Expr, ast.ImportFrom, ast.Try,
 )
 
 
@@ -187,7 +207,8 @@ class CodeTest(unittest.TestCase):
 
     def test_names_have_one_meaning(self):
         for path, tree in TREES.items():
-            taken = set(dir(builtins))
+            # The examples of README.md, when they have been run, leave a builtin of the name `_`.
+            taken = set(dir(builtins)) - {"_"}
             for node in tree.body:
                 if isinstance(node, ast.ImportFrom):
                     taken.update(name.name for name in node.names)
@@ -199,13 +220,34 @@ class CodeTest(unittest.TestCase):
                         self.assertNotIn(name, taken, (path, node.name))
             self.assertFalse(set(names_at_module_level(tree)) & set(dir(builtins)), path)
 
+    def test_is_stands_beside_none_true_and_false(self):
+        for path, node in nodes_of(ast.Compare):
+            for operator, right in zip(node.ops, node.comparators):
+                if isinstance(operator, (ast.Is, ast.IsNot)):
+                    self.assertIsInstance(right, ast.Constant, (path, node.lineno))
+                    self.assertIn(right.value, (None, True, False), (path, node.lineno))
+
+    def test_handlers_name_own_errors(self):
+        for path, node in nodes_of(ast.Try):
+            self.assertEqual((node.orelse, node.finalbody), ([], []), path)
+            for handler in node.handlers:
+                self.assertIn(handler.type.id, INTERFACE["samepage.errors"], (path, node.lineno))
+
+    def test_errors_are_created_where_they_are_raised(self):
+        for path, node in nodes_of(ast.Raise):
+            self.assertIn(node.exc.func.id, INTERFACE["samepage.errors"], (path, node.lineno))
+            self.assertIsNone(node.cause, (path, node.lineno))
+
     def test_builtins_and_methods(self):
+        own = [
+            method.name for _, node in nodes_of(ast.ClassDef) for method in node.body if isinstance(method, ast.FunctionDef)]
+        self.assertEqual(set(own) & set(METHODS), set())
         for path, node in nodes_of(ast.Name):
             if isinstance(node.ctx, ast.Load) and node.id in dir(builtins):
                 self.assertIn(node.id, BUILTINS, (path, node.lineno))
         for path, node in nodes_of(ast.Call):
             if isinstance(node.func, ast.Attribute):
-                self.assertIn(node.func.attr, METHODS, (path, node.lineno))
+                self.assertIn(node.func.attr, METHODS + own, (path, node.lineno))
 
 
 class InterfaceTest(unittest.TestCase):
@@ -216,6 +258,14 @@ class InterfaceTest(unittest.TestCase):
             for name in names:
                 self.assertIn(name, defined, module)
                 self.assertEqual(getattr(importlib.import_module(module), name).__module__, module)
+
+    def test_the_arguments(self):
+        found = []
+        for module, names in INTERFACE.items():
+            if module != "samepage.errors":
+                loaded = importlib.import_module(module)
+                found += [name + str(inspect.signature(getattr(loaded, name))) for name in names]
+        self.assertEqual(found, SIGNATURES)
 
 
 if __name__ == "__main__":

@@ -16,6 +16,11 @@ def numbered(number):
     return None
 
 
+def is_text(string):
+    """Return True if the string consists of characters of pages, otherwise False."""
+    return all([numbered(ord(char)) is not None for char in string])
+
+
 def is_numbered_between(low, high):
     """Return True if some character has a number from `low` to `high`, otherwise False."""
     return low <= 10 <= high or (low <= 36 and high >= 32) or (low <= 126 and high >= 38)

@@ -1,0 +1,1 @@
+"""Data: values, their notation, and the records of a shape."""

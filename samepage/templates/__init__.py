@@ -1,0 +1,1 @@
+"""Templates: their shapes, their source, and how they are laid out."""

@@ -1,0 +1,1 @@
+"""The ways through a template."""
