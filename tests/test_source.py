@@ -237,6 +237,7 @@ class BadDirectiveTest(ErrorsTest):
             "{slot}", "{part a}{end}", "{use a}{end}", "{if a}", "{for a in b}", "{data a}", "{shape }", "{shape  a text}",
             "{ shape}", "{Shape}", "{SHAPE a text}", "{shapes}", "{shape a}", "{shape a text,}", "{shape a text }",
             "{shape\na text}", "{shape a text{shape}", "{shape data text}", "{shape a [}", "{shape a []", "x{shape}",
+            "xshape}", " shape}", "xshape a text}y", "}shape}",
         ):
             self.check(BadDirective, source, 0)
 
