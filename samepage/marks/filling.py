@@ -2,7 +2,7 @@
 
 from samepage.errors import MissingText
 
-OPEN = ("text", "bare", "double", "single", "equals")
+OPEN_PLACES = ("text", "bare", "double", "single", "equals")
 
 
 def fill(tokens, texts):
@@ -65,7 +65,7 @@ def marks_in(pieces):
 
 def is_open(state):
     """Return True if a text of any characters can be shown in the place of the state, otherwise False."""
-    return state[0] in OPEN
+    return state[0] in OPEN_PLACES
 
 
 def hopeless_text(state):
