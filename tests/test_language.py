@@ -30,6 +30,14 @@ INTERFACE = {
     "samepage.data.notation": ["notation", "read_notation"],
     "samepage.data.records": ["misfit", "note", "read_note", "datum"],
     "samepage.ways.program": ["program", "questions"],
+    "samepage.ways.reach": ["first_situations", "following", "reachable", "way_to"],
+    "samepage.ways.records": ["record_of", "takes"],
+    "samepage.ways.certificate": ["is_closed", "states_at"],
+    "samepage.codings.coding": ["is_admissible", "coding", "coded", "is_smaller"],
+    "samepage.codings.verdict": ["hole_kinds", "is_accepted", "certificate", "refusal", "shows"],
+    "samepage.codings.trials": ["needs", "trial"],
+    "samepage.rendering.expansion": ["expand", "own_tokens"],
+    "samepage.rendering.render": ["render", "check", "reason"],
 }
 
 SIGNATURES = [
@@ -40,7 +48,13 @@ SIGNATURES = [
     "depth_of(shape)", "parse_template(source)", "write_template(template)", "lay_out(template)", "holes_of(nodes)",
     "is_value(value)", "parts_of(value)", "same(one, two)", "notation(value)", "read_notation(text, most=12)",
     "misfit(record, shape)", "note(record, shape)", "read_note(text, shape)", "datum(records, path)", "program(nodes)",
-    "questions(instructions, number)",
+    "questions(instructions, number)", "first_situations(instructions)", "following(instructions, situation)",
+    "reachable(instructions)", "way_to(instructions, situation)", "record_of(shape, instructions, way)",
+    "takes(instructions, record, way)", "is_closed(instructions, situations)", "states_at(instructions, situations, hole)",
+    "is_admissible(kind, state)", "coding(kind, state)", "coded(coding, text)", "is_smaller(first, second)", "hole_kinds(nodes)",
+    "is_accepted(nodes)", "certificate(nodes)", "refusal(shape, nodes)", "shows(nodes, situations)", "needs(state)",
+    "trial(state, need)", "expand(nodes, record)", "own_tokens(nodes, record)", "render(source, record)", "check(source)",
+    "reason(source)",
 ]
 
 BUILTINS = (

@@ -1,0 +1,1 @@
+"""Rendering: from a source and a record to the page."""
